@@ -1,0 +1,1 @@
+"""Revokelog: a log with revoked blocks, and a file store over it."""
