@@ -21,7 +21,8 @@ def nested(deep):
 def state(disk):
     """All that a disk shows of itself."""
     newest = [disk.read(block) for block in range(disk.blocks())]
-    return disk.blocks(), newest, disk.durable(), disk.pending(), disk.events()
+    # Copies, so that a list of the disk's own would not change along with it.
+    return disk.blocks(), newest, list(disk.durable()), list(disk.pending()), list(disk.events())
 
 
 def raised(test, error_class, call, *args):

@@ -88,8 +88,11 @@ class FieldsTest(unittest.TestCase):
             __str__ = __repr__
 
         hidden = Hidden()
-        self.assertIs(errors.BadBlock(hidden).block, hidden)
-        self.assertIsInstance(str(errors.BadBlock(hidden)), str)
+        for name, fields in FIELDS.items():
+            if fields and fields != ["why"]:
+                error = getattr(errors, name)(*[hidden] * len(fields))
+                self.assertIs(getattr(error, fields[-1]), hidden)
+                self.assertIsInstance(str(error), str)
 
 
 if __name__ == "__main__":
