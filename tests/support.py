@@ -1,7 +1,35 @@
 """What several test files need."""
 
+from copy import deepcopy
+
+from revokelog.journals import Journal, needed
+from revokelog.layouts import Layout, new_disk
+
 # Everything here is no integer; some of it cannot be hashed, some is equal to one.
 NO_INTEGERS = (None, True, False, "1", "", b"1", [], [1], (), (1,), {}, {1: 1}, {1}, object(), range(3))
+
+
+
+class AlwaysEqual:
+    """Equal to everything, and cannot be hashed."""
+
+    def __eq__(self, other):
+        return True
+
+
+# Everything here is no name of a rule, and not None.
+NO_RULES = (
+    "", "revokes", "Revoke", "revoke ", "header\n", 0, 1, -1, True, False, b"revoke", [], ["revoke"], (), ("revoke",),
+    ("revoke", "cancel"), {}, {"revoke": 1}, {"revoke"}, object(), AlwaysEqual(),
+)
+
+# Everything here is no path.
+NO_PATHS = (
+    None, True, 0, 1, "", "a", "a/b", " ", "//", "///", "/a/", "//a", "/a//b", "a/", "/A", "/a1", "/1", "/a b", "/ a",
+    " /a", "/a ", "/a\n", "\n/a", "/.", "/..", "/a.b", "/-", "/_", "/\u00e4", "/a\u0131", "/`", "/{", "/@",
+    "/abcdefghi", "/a/abcdefghi", "/abcdefghi/a", "\\a", b"/", b"/a", [], ["/a"], (), ("/a",), ("/", "a"), {},
+    {"/a": 1}, {"/a"}, object(), AlwaysEqual(),
+)
 
 # Everything here is no value of a block.
 NO_VALUES = (
@@ -25,9 +53,52 @@ def state(disk):
     return disk.blocks(), newest, list(disk.durable()), list(disk.pending()), list(disk.events())
 
 
-def raised(test, error_class, call, *args):
+def raised(test, error_class, call, *args, **named):
     """The error that the call raises: of this very class."""
     with test.assertRaises(error_class) as caught:
-        call(*args)
+        call(*args, **named)
     test.assertIs(caught.exception.__class__, error_class)
     return caught.exception
+
+
+def new_journal(slots=8, homes=4, without=None):
+    layout = Layout(slots, homes)
+    return Journal(layout, new_disk(layout), without=without)
+
+
+def journal_state(journal):
+    """All that a journal and its disk show of themselves, as copies."""
+    values = [journal.value(home) for home in range(journal.plan.homes())]
+    shown = (journal.running(), journal.kept(), journal.numbers(), journal.free_slots(), values, needed(journal))
+    return deepcopy(shown), state(journal.medium)
+
+
+def store_state(store):
+    """All that a store, its journal and its disk show of themselves, as copies."""
+    return deepcopy(store.tree()), journal_state(store.journal())
+
+
+def place(layout, disk, slot, records):
+    """Writes records to the slots from this one on, round the ring."""
+    for step, record in enumerate(records):
+        disk.write(layout.slot_block((slot + step) % layout.slots()), record)
+
+
+def slot_writes(layout, slot, records):
+    """The events of writing records to the slots from this one on, round the ring."""
+    blocks = [layout.slot_block((slot + step) % layout.slots()) for step in range(len(records))]
+    return [("write", block, record) for block, record in zip(blocks, records)]
+
+
+def spoil(made):
+    """Changes all lists in a returned value, also those inside lists and tuples."""
+    if isinstance(made, (list, tuple)):
+        for part in made:
+            spoil(part)
+    if isinstance(made, list):
+        made.reverse()
+        made.append("more")
+        made[0] = "other"
+
+
+FLUSH = ("flush",)
