@@ -18,11 +18,15 @@ class Store:
     """Directories, which are logged, and files, whose data is written to its homes at once."""
 
     def __init__(self, layout, *, without=None):
-        self._journal = Journal(layout, new_disk(layout), without=without)
+        self._begin(Journal(layout, new_disk(layout), without=without))
         self._journal.log(MAP_HOME, first_map(layout.homes()))
         self._journal.log(ROOT_HOME, ())
         self.commit()
         self.checkpoint()
+
+    def _begin(self, journal):
+        self._journal = journal
+        self._committed_map = journal.value(MAP_HOME)
 
     def layout(self):
         return self._journal.plan
@@ -169,6 +173,14 @@ class Store:
         layout = self._journal.plan
         for home, value in zip(homes, values):
             self._journal.medium.write(layout.home_block(home), value)
+
+
+def store_on(journal):
+    """The store of which the homes of a journal tell."""
+    # Making a store makes a disk of its own, which is left behind here.
+    store = Store(journal.plan)
+    store._begin(journal)
+    return store
 
 
 def _check_path(path):

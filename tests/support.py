@@ -2,12 +2,12 @@
 
 from copy import deepcopy
 
+from revokelog.disks import Disk, crash_choices
 from revokelog.journals import Journal, needed
 from revokelog.layouts import Layout, new_disk
 
 # Everything here is no integer; some of it cannot be hashed, some is equal to one.
 NO_INTEGERS = (None, True, False, "1", "", b"1", [], [1], (), (1,), {}, {1: 1}, {1}, object(), range(3))
-
 
 
 class AlwaysEqual:
@@ -16,6 +16,21 @@ class AlwaysEqual:
     def __eq__(self, other):
         return True
 
+
+# Everything here is no header of a disk with eight slots.
+NO_HEADERS = (
+    0, 1, "", "tail", (), ("tail",), ("tail", 1), ("tail", 1, 0, 0), ("tail", 1, 0, ()), (("tail", 1, 0),),
+    ("Tail", 1, 0), ("", 1, 0), (0, 1, 0), (("tail",), 1, 0), (1, "tail", 0), ("commit", 1, 0),
+    ("tail", 0, 0), ("tail", -1, 0), ("tail", "1", 0), ("tail", "", 0), ("tail", (1,), 0), ("tail", (), 0),
+    ("tail", 1, 8), ("tail", 1, -1), ("tail", 1, 10 ** 30), ("tail", 1, "0"), ("tail", 1, ""), ("tail", 1, (0,)),
+    ("tail", 1, ()),
+)
+
+# Everything here is no header either, and no disk lets it be written.
+UNWRITTEN_HEADERS = (
+    None, True, [], ["tail", 1, 0], {}, object(), AlwaysEqual(), ("tail", True, 0), ("tail", 1, True),
+    ("tail", 1, False), ("tail", None, 0), ("tail", 1, None), ("tail", [1], 0), ("tail", 1, [0]),
+)
 
 # Everything here is no name of a rule, and not None.
 NO_RULES = (
@@ -88,6 +103,48 @@ def slot_writes(layout, slot, records):
     """The events of writing records to the slots from this one on, round the ring."""
     blocks = [layout.slot_block((slot + step) % layout.slots()) for step in range(len(records))]
     return [("write", block, record) for block, record in zip(blocks, records)]
+
+
+def every_crash(disk, least=0):
+    """Rows (many, kept, new disk) of each crash behind at least so many events of a disk."""
+    for many in range(least, len(disk.events()) + 1):
+        before = disk.after(many)
+        for kept in crash_choices(before):
+            yield many, kept, before.crashed(kept)
+
+
+class PlainTree:
+    """What a store holds: the values of each file, and None for each directory."""
+
+    def __init__(self, rows=()):
+        self.nodes = dict(rows)
+
+    def do(self, step):
+        """Does a step that raised no error on the store."""
+        if step[0] == "make":
+            self.nodes[step[1]] = None
+        elif step[0] == "put":
+            self.nodes[step[1]] = tuple(step[2])
+        elif step[0] == "remove":
+            del self.nodes[step[1]]
+        elif step[0] == "move":
+            path, goal = step[1:]
+            for other in [other for other in self.nodes if (other + "/").startswith(path + "/")]:
+                self.nodes[goal + other[len(path):]] = self.nodes.pop(other)
+
+    def tree(self):
+        return sorted(self.nodes.items())
+
+
+class FalseDisk(Disk):
+    """A disk of which some blocks are read otherwise than they were written."""
+
+    def __init__(self, blocks, answers):
+        Disk.__init__(self, blocks)
+        self.answers = answers
+
+    def read(self, block):
+        return self.answers[block] if block in self.answers else Disk.read(self, block)
 
 
 def spoil(made):
